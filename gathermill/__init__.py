@@ -1,0 +1,1 @@
+"""Gathermill: a language, its machine, and a heap that is gathered while it runs."""
