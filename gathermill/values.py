@@ -64,9 +64,9 @@ def is_object(thing):
     return thing[0] == "array" and is_tuple_of(is_value, thing[1])
 
 
-def is_tuple_of(fits, thing):
-    """Whether thing is a tuple of what fits."""
-    return isinstance(thing, tuple) and all([fits(own) for own in thing])
+def is_tuple_of(is_member, thing):
+    """Whether thing is a tuple of things for each of which is_member tells True."""
+    return isinstance(thing, tuple) and all([is_member(own) for own in thing])
 
 
 def kind_of(value):
