@@ -71,7 +71,7 @@ class ErrorsOfNamesTest(unittest.TestCase):
             self.assertIs(alike(tree_of(text), tree_of(text)), True, text)
 
     def test_misplaced(self):
-        for text in ("break;", "if true { break; }", "try { break; } catch x { }", "try { } catch x { break; }",
+        for text in ("break;", "if true { break; }", "if true { } else { break; }", "try { break; } catch x { }", "try { } catch x { break; }",
                      "while true { fn () { break; }; }", "while fn () { break; } { }", "while true { } break;",
                      "fn () { while true { fn () { break; }; } };", "while true { let f = fn () { break; }; }"):
             self.check_bad(text, Misplaced, "break")
