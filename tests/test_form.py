@@ -2,6 +2,7 @@
 
 import ast
 import builtins
+import functools
 import os
 import re
 import unittest
@@ -45,6 +46,7 @@ def sources():
     return found
 
 
+@functools.lru_cache
 def parsed():
     """The pairs (name, syntax tree) of the files; each node knows the one around it as its attribute above."""
     found = []
