@@ -39,7 +39,7 @@ def held_by(frames):
 
 
 def come_to(frames, objects):
-    """A dict from the numbers of the live OBJECTS, in the order in which they are first come to, to their new numbers."""
+    """A dict of the live OBJECTS: from their numbers, in the order in which they are first come to, to new ones."""
     order = []
     found = {}
     come_to_led(held_by(frames), order, found)

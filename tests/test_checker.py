@@ -353,6 +353,8 @@ class TablesTest(unittest.TestCase):
                       (("plain",), 0, ((0,),)), (("plain",), 0, ((True, 0),)), (("plain",), 0, (0, 0)), ((("plain",),), 0, ())):
             self.check(False, p2=sheet)
             self.check(False, p0=sheet)
+            # At the last place, to which nothing leads, any SHEET may stand, also this one.
+            self.check(sheet == (("plain",), 0, ((0, 0),)), p7=sheet)
         rows = self.rows()
         for thing in ((), rows + rows, rows[0], (rows[0][:-1],), (rows[0] + (None,),), (list(rows[0]),), ((None,) * 8,), (None,),
                       *STRANGE):

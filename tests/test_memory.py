@@ -168,6 +168,26 @@ class FormTest(unittest.TestCase):
         self.check(False, bent(GOES, 6, ("cell",)))
         self.check(True, bent(bent(bent(GOES, 6, ("cell",)), 0, FREE), 1, FREE), left=7, young=0)
 
+    def test_full_halves(self):
+        cells = (("cell",), 1, ("cell",), 2)
+        for half in (0, 1):
+            here, there = 4 + 4 * half, 8 - 4 * half
+            begun = with_parts(memory_begun(4, 4), half=half, free=here)
+            near = (FREE,) * here + cells + (FREE,) * (8 - here)
+            far = (FREE,) * there + cells + (FREE,) * (8 - there)
+            self.check(True, begun, words=near, free=here + 4)
+            self.check(True, begun, words=far, scan=here, left=4)
+            self.check(False, begun, words=far, scan=here, left=3)
+            # All is moved: the second CELL first.
+            moved = (("moved", here + 2), 1, ("moved", here), 2)
+            both = near[:there] + moved + near[there + 4:]
+            self.check(True, begun, words=both, free=here + 4, scan=here)
+            self.check(False, begun, words=both[:there + 2] + (("moved", here + 2),) + both[there + 3:], free=here + 4, scan=here)
+            row = (("array", 4), 1, 2, 3)
+            self.check(False, begun, words=(FREE,) * here + row + (FREE,) * (8 - here), free=here + 4)
+            self.check(False, begun, words=(FREE,) * there + row + (FREE,) * (8 - there), scan=here, left=5)
+            self.check(True, begun, words=(FREE,) * there + (("array", 3), *row[1:]) + (FREE,) * (8 - there), scan=here, left=4)
+
     def test_words_here_behind_scan(self):
         for word, wanted in ((("@", 6), True), (("@", 8), True), (("@", 10), True), (("@", 13), True), (("@", 18), True), (("@", 7), False),
                              (("@", 12), False), (("@", 19), False), (("@", 22), False), (("@", 2), False)):
