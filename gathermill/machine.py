@@ -3,7 +3,7 @@
 from gathermill.doing import do_next
 from gathermill.errors import Unfit
 from gathermill.heap import Heap, live_words_of
-from gathermill.objects import come_to, leads, members_of, with_members
+from gathermill.objects import come_to, renumbered, renumbered_frames
 from gathermill.running import Run
 from gathermill.tuples import frozen
 
@@ -74,21 +74,4 @@ def canon(state):
     frames, objects, shown, end = frozen(state)
     numbers = come_to(frames, objects)
     lived = [renumbered(objects[number], numbers) for number in list(numbers)]
-    return (tuple([renumbered_frame(frame, numbers) for frame in frames]), tuple(lived), shown, end)
-
-
-def with_numbers(members, numbers):
-    """The tuple of what stands in a FRAME or an OBJECT, with other numbers in REFERENCES."""
-    return tuple([("@", numbers[value[1]]) if leads(value) else value for value in members])
-
-
-def renumbered(item, numbers):
-    """An OBJECT with other numbers in its REFERENCES."""
-    return with_members(item, with_numbers(members_of(item), numbers))
-
-
-def renumbered_frame(frame, numbers):
-    """A FRAME with other numbers in its REFERENCES."""
-    code, place, slots, stack, function, guards = frame
-    function = with_numbers((function,), numbers)[0]
-    return (code, place, with_numbers(slots, numbers), with_numbers(stack, numbers), function, guards)
+    return (renumbered_frames(frames, numbers), tuple(lived), shown, end)

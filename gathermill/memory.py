@@ -87,13 +87,7 @@ def placed(memory, item):
     words = words_of(item)
     if not are_near(store, members_of(item)):
         raise Unfit()
-    is_small = words <= store.nursery
-    if store.used() + words > store.room or (is_small and store.young + words > store.nursery):
+    if store.used() + words > store.room or store.nursery - store.young < words <= store.nursery:
         raise CanNot()
-    address = store.young if is_small else store.free
-    store.put_object(address, item)
-    if is_small:
-        store.young += words
-    else:
-        store.free += words
+    address = store.place(item)
     return (memory_of(store), address)

@@ -38,6 +38,33 @@ def held_by(frames):
     return held
 
 
+def with_held(frames, held):
+    """The list of FRAMES that hold others, as many, in their order."""
+    built = []
+    at = 0
+    for code, place, slots, stack, _, guards in frames:
+        middle = at + len(slots)
+        end = middle + len(stack)
+        built.append((code, place, tuple(held[at:middle]), tuple(held[middle:end]), held[end], guards))
+        at = end + 1
+    return built
+
+
+def with_numbers(members, numbers):
+    """The tuple of what stands in a FRAME or an OBJECT, with other numbers in REFERENCES."""
+    return tuple([("@", numbers[value[1]]) if leads(value) else value for value in members])
+
+
+def renumbered(item, numbers):
+    """An OBJECT with other numbers in its REFERENCES."""
+    return with_members(item, with_numbers(members_of(item), numbers))
+
+
+def renumbered_frames(frames, numbers):
+    """The tuple of FRAMES with other numbers in their REFERENCES."""
+    return tuple(with_held(frames, with_numbers(held_by(frames), numbers)))
+
+
 def come_to(frames, objects):
     """A dict of the live OBJECTS: from their numbers, in the order in which they are first come to, to new ones."""
     order = []

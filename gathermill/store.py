@@ -2,7 +2,7 @@
 
 from gathermill.layout import FREE, first_of_half, is_header, many_in
 from gathermill.objects import header_of, members_of
-from gathermill.values import is_reference
+from gathermill.values import is_reference, words_of
 
 
 class Store:
@@ -24,6 +24,10 @@ class Store:
         """The first address here."""
         return first_of_half(self.room, self.nursery, self.half)
 
+    def first_there(self):
+        """The first address there."""
+        return first_of_half(self.room, self.nursery, 1 - self.half)
+
     def used(self):
         """How many words are used."""
         return self.young + self.free - self.first_here() + self.left
@@ -34,6 +38,11 @@ class Store:
         if not 0 <= address < self.nursery and not first <= address < first + self.room:
             return False
         return is_header(self.words[address])
+
+    def is_there(self, address):
+        """Whether an address is one there."""
+        first = self.first_there()
+        return first <= address < first + self.room
 
     def put_word(self, address, value):
         """Puts a VALUE into a word, and remembers the address if the nursery must not forget it."""
@@ -48,6 +57,18 @@ class Store:
         self.words[address] = header_of(item)
         for at, value in enumerate(members_of(item), address + 1):
             self.put_word(at, value)
+
+    def place(self, item):
+        """Puts a new OBJECT into the nursery, or here if it is greater, and tells its address."""
+        words = words_of(item)
+        if words <= self.nursery:
+            address = self.young
+            self.young += words
+        else:
+            address = self.free
+            self.free += words
+        self.put_object(address, item)
+        return address
 
     def move(self, address, target):
         """Moves an OBJECT to where all words are free; its old words stay. Tells the address behind it."""

@@ -9,14 +9,35 @@ def frozen(value):
     begun = [(value, [], outer)]
     while begun:
         source, built, holder = begun[-1]
-        if len(built) == len(source):
+        deeper = next_deep(source, built)
+        if deeper is None:
             begun.pop()
             holder.append(tuple(built))
-        elif isinstance(source[len(built)], (list, tuple)):
-            begun.append((source[len(built)], [], built))
         else:
-            built.append(source[len(built)])
+            begun.append((deeper, [], built))
     return outer[0]
+
+
+def next_deep(source, built):
+    """Goes on with building source anew, up to what has lists or tuples in it itself; None if there is none."""
+    for at in range(len(built), len(source)):
+        own = source[at]
+        if not isinstance(own, (list, tuple)):
+            built.append(own)
+        elif is_flat(own):
+            # Most tuples, words of memories above all, end here.
+            built.append(tuple(own))
+        else:
+            return own
+    return None
+
+
+def is_flat(value):
+    """Whether a list or a tuple has no list and no tuple in it."""
+    for own in value:
+        if isinstance(own, (list, tuple)):
+            return False
+    return True
 
 
 def is_same(one, other):

@@ -32,6 +32,14 @@ INTERFACE = {
               "objects_in(memory), head_of(memory, address), object_at(memory, address), read(memory, address, number), "
               "written(memory, address, number, value), placed(memory, item)",
     "minor": "minor(memory, roots), minor_moves(memory, roots)",
+    "major": "flipped(memory, roots), collected(memory, roots), whole(memory, roots), fetched(memory, address, number), "
+             "steps_to_end(memory)",
+    "mill": "mill_begun(program, limits), mill_stepped(program, mill, limits, steps), "
+            "run_mill(program, limits, schedule, most), mills_along(program, limits, schedule, most), roots_of(frames), "
+            "with_roots(frames, roots), is_mill(thing)",
+    "sights": "sight(mill), same_sight(mill, other), parting(mill, other), is_parting(mill, other, thing), seen_at(mill), "
+              "unseen(mill)",
+    "holds": "has_form(thing), breaches(mill), is_sound(mill), reached(mill), reached_words(mill), is_tight(mill)",
 }
 
 

@@ -126,15 +126,23 @@ class DoingTest(unittest.TestCase):
         self.assertEqual(begun(program=lists_of(main("halt"))), (((0, 0, (), (), None, ()),), (), (), None))
 
 
-class LacksTest(unittest.TestCase):
+class OutcomeCase(unittest.TestCase):
+    """What is told of OUTCOMES alone; the tests of the mill take these tests, too."""
+
+    def outcome(self, program, limits, most):
+        """The OUTCOME of a run."""
+        return run_plain(program, limits, most)
+
+
+class LacksTest(OutcomeCase):
     def check(self, body, lack, limits=LIMITS, slots=2):
         """Whether a run of main, or of a PROGRAM, fails by a lack; the same guarded is caught, with its stack cut."""
         program = main(body, slots) if isinstance(body, str) else body
-        self.assertEqual(run_plain(program, limits, 99), ((), ("failed", lack)), body)
+        self.assertEqual(self.outcome(program, limits, 99), ((), ("failed", lack)), body)
         if isinstance(body, str):
             size = body.count(";") + 1
             guarded = main(f"constant number 3; guard {size + 3}; {body}; halt; show; show; halt", slots)
-            self.assertEqual(run_plain(guarded, limits, 99), ((lack, "3"), ("done",)), body)
+            self.assertEqual(self.outcome(guarded, limits, 99), ((lack, "3"), ("done",)), body)
 
     def test_kinds(self):
         one, array, truth = "constant number 1", "array 0", "constant truth true"
@@ -156,7 +164,7 @@ class LacksTest(unittest.TestCase):
             self.check(f"{row}constant number {place}; item", "place")
             self.check(f"{row}constant number {place}; constant nothing; setitem", "place")
         self.check("array 0; constant number 0; item", "place")
-        self.assertEqual(run_plain(main(row + "constant number 1; item; show; halt"), LIMITS, 9)[0], ("8",))
+        self.assertEqual(self.outcome(main(row + "constant number 1; item; show; halt"), LIMITS, 9)[0], ("8",))
 
     def test_operations(self):
         self.check("constant number 1; constant number 0; two /", "divide")
@@ -167,7 +175,7 @@ class LacksTest(unittest.TestCase):
             self.check(f"constant number {n}; constant nothing; many", "range", (10 ** 6, 4, 1))
         for n in (0, 1, 1000):
             body = f"constant number {n}; constant nothing; many; length; show; halt"
-            self.assertEqual(run_plain(main(body), (1001, 4, 1), 9), ((str(n),), ("done",)))
+            self.assertEqual(self.outcome(main(body), (1001, 4, 1), 9), ((str(n),), ("done",)))
         # The range is looked at ahead of the room, the kind ahead of the range.
         self.check("constant number 1001; constant nothing; many", "range", (0, 4, 1))
         self.check("constant number 1000; constant nothing; many", "room", (1000, 4, 1))
@@ -182,21 +190,21 @@ class LacksTest(unittest.TestCase):
 
     def test_deep(self):
         program = compiled_text("let down = fn (n) { if n == 0 { return 0; } return 1 + down(n - 1); }; show down(5);")
-        self.assertEqual(run_plain(program, (9, 4, 7), 999), (("5",), ("done",)))
-        self.assertEqual(run_plain(program, (9, 4, 6), 999), ((), ("failed", "deep")))
-        self.assertEqual(run_plain(program, (9, 4, 1), 999), ((), ("failed", "deep")))
+        self.assertEqual(self.outcome(program, (9, 4, 7), 999), (("5",), ("done",)))
+        self.assertEqual(self.outcome(program, (9, 4, 6), 999), ((), ("failed", "deep")))
+        self.assertEqual(self.outcome(program, (9, 4, 1), 999), ((), ("failed", "deep")))
 
     def test_kinds_ahead_of_places(self):
         self.check("constant number 1; constant number 9; item", "kind")
         self.check("array 0; constant truth true; constant number 9; setitem", "kind")
 
 
-class RoomTest(unittest.TestCase):
+class RoomTest(OutcomeCase):
     def check(self, program, least, shown):
         """Whether a run ends well exactly if the room is not below the least one."""
         for room in range(least + 3):
             wanted = ((shown,), ("done",)) if room >= least else ((), ("failed", "room"))
-            self.assertEqual(run_plain(program, (room, 4, 9), 99), wanted, room)
+            self.assertEqual(self.outcome(program, (room, 4, 9), 99), wanted, room)
 
     def test_array(self):
         self.check(main("array 0; length; show; halt"), 1, "0")
@@ -233,33 +241,33 @@ class RoomTest(unittest.TestCase):
 
     def test_room_again_behind_a_lack(self):
         program = compiled_text('let a = [1, 2]; try { a = [3, a]; show 1; } catch e { show e; } a = 0; show len([1, 2]);')
-        self.assertEqual(run_plain(program, (5, 4, 1), 99), (("room", "2"), ("done",)))
-        self.assertEqual(run_plain(program, (6, 4, 1), 99), (("1", "2"), ("done",)))
+        self.assertEqual(self.outcome(program, (5, 4, 1), 99), (("room", "2"), ("done",)))
+        self.assertEqual(self.outcome(program, (6, 4, 1), 99), (("1", "2"), ("done",)))
 
 
-class FailingTest(unittest.TestCase):
+class FailingTest(OutcomeCase):
     def test_over_several_frames(self):
         program = compiled_text("let f = fn (n) { if n == 0 { fail [1]; } f(n - 1); }; "
                                 "try { let x = 5; f(3); show 1; } catch e { show len(e); } show 2;")
-        self.assertEqual(run_plain(program, LIMITS, 999), (("1", "2"), ("done",)))
+        self.assertEqual(self.outcome(program, LIMITS, 999), (("1", "2"), ("done",)))
 
     def test_a_guard_in_a_frame_between(self):
         program = compiled_text('let g = fn () { fail "a"; }; let f = fn () { try { g(); } catch e { show e; fail "b"; } }; '
                                 'try { f(); } catch e { show e; }')
-        self.assertEqual(run_plain(program, LIMITS, 999), (("a", "b"), ("done",)))
+        self.assertEqual(self.outcome(program, LIMITS, 999), (("a", "b"), ("done",)))
 
     def test_the_stack_is_cut(self):
         program = main("constant number 1; constant number 2; guard 8; constant number 3; constant number 4; constant number 5; "
                        "constant nothing; fail; show; show; show; halt")
         state = ahead_of(program, 8)
         self.assertEqual(state[0], ((0, 8, (), (1, 2, None), None, ()),))
-        self.assertEqual(run_plain(program, LIMITS, 99), (("nothing", "2", "1"), ("done",)))
+        self.assertEqual(self.outcome(program, LIMITS, 99), (("nothing", "2", "1"), ("done",)))
 
     def test_the_last_guard_is_gone_to(self):
         program = main("guard 6; guard 4; constant number 1; fail; constant number 2; fail; show; halt")
         self.assertEqual([own[0][-1][5] for own in states_along(program, LIMITS, 7)[:-1]],
                          [(), ((6, 0),), ((6, 0), (4, 0)), ((6, 0), (4, 0)), ((6, 0),), ((6, 0),), ()])
-        self.assertEqual(run_plain(program, LIMITS, 99), (("2",), ("done",)))
+        self.assertEqual(self.outcome(program, LIMITS, 99), (("2",), ("done",)))
 
     def test_ends(self):
         for text, end in (("fail 1;", "1"), ("fail [1, 2];", "array 2"), ("fail fn (a) { };", "function 1"), ("fail nothing;", "nothing"),
@@ -267,28 +275,28 @@ class FailingTest(unittest.TestCase):
             program = compiled_text(text)
             states = states_along(program, LIMITS, 99)
             self.assertEqual((states[-1][0], states[-1][3]), ((), ("failed", end)))
-            self.assertEqual(run_plain(program, LIMITS, 99)[1], ("failed", end))
+            self.assertEqual(self.outcome(program, LIMITS, 99)[1], ("failed", end))
             self.assertEqual(told(stepped, program, states[-1], LIMITS), raised("Unfit"))
 
     def test_failing_keeps_slots(self):
         program = main("constant number 9; store 0; guard 5; constant number 1; fail; pop; load 0; show; halt", 1)
-        self.assertEqual(run_plain(program, LIMITS, 99), (("9",), ("done",)))
+        self.assertEqual(self.outcome(program, LIMITS, 99), (("9",), ("done",)))
 
 
-class FaultsTest(unittest.TestCase):
+class FaultsTest(OutcomeCase):
     def check(self, program, place, code=0, limits=LIMITS):
         program = main(program, 1) if isinstance(program, str) else program
         wanted = raised("Fault", code=code, place=place)
         self.assertIs(is_taken(program), False, program)
-        self.assertEqual(told(run_plain, program, limits, 99), wanted, program)
-        self.assertEqual(told(run_plain, lists_of(program), list(limits), 99), wanted)
+        self.assertEqual(told(self.outcome, program, limits, 99), wanted, program)
+        self.assertEqual(told(self.outcome, lists_of(program), list(limits), 99), wanted)
         self.assertEqual(told(states_along, program, limits, 99), wanted)
         most = 0
-        while told(run_plain, program, limits, most) != wanted:
+        while told(self.outcome, program, limits, most) != wanted:
             most += 1
         # Ahead of the Fault all is as if nothing were wrong.
         state = states_along(program, limits, most - 1)[-1]
-        self.assertEqual(run_plain(program, limits, most - 1)[1], ("going",))
+        self.assertEqual(self.outcome(program, limits, most - 1)[1], ("going",))
         self.assertEqual(told(stepped, program, state, limits), wanted)
         self.assertEqual(told(stepped, lists_of(program), lists_of(state), list(limits)), wanted)
 
@@ -349,7 +357,7 @@ class FaultsTest(unittest.TestCase):
         self.check("constant number 1; constant number 1; guard 6; pop; pop; one -; halt", 5)
         # The stack as it was ahead of the INSTRUCTION is high enough.
         program = main("constant number 1; guard 3; fail; show; show; halt")
-        self.assertEqual(told(run_plain, program, LIMITS, 9), (("1", "1"), ("done",)))
+        self.assertEqual(told(self.outcome, program, LIMITS, 9), (("1", "1"), ("done",)))
         # The FRAME with the GUARD is another one than that of the INSTRUCTION that fails.
         self.check(made("0 0 0: constant number 1; constant number 1; guard 7; pop; pop; close 1; call 0; halt",
                         "0 0 0: constant number 2; fail"), 1, 1)
@@ -371,13 +379,13 @@ class FaultsTest(unittest.TestCase):
     def test_not_all_that_is_refused_is_a_fault(self):
         # Code 0 can be closed and called, and return then; a halt ends the run in any CODE.
         program = made("0 1 0: array 0; pop; constant number 5; show; constant truth true; unless 8; jump 9; halt; halt; halt")
-        self.assertEqual(run_plain(program, LIMITS, 20), (("5",), ("done",)))
+        self.assertEqual(self.outcome(program, LIMITS, 20), (("5",), ("done",)))
         program = main("constant number 1; show; close 0; call 0; return")
         self.assertIs(is_taken(program), False)
-        self.assertEqual(run_plain(program, (9, 4, 3), 99), (("1", "1", "1"), ("failed", "deep")))
+        self.assertEqual(self.outcome(program, (9, 4, 3), 99), (("1", "1", "1"), ("failed", "deep")))
         # Other heights may meet at a place.
         program = main("constant number 1; jump 0")
-        self.assertEqual(run_plain(program, LIMITS, 1001), ((), ("going",)))
+        self.assertEqual(self.outcome(program, LIMITS, 1001), ((), ("going",)))
         self.assertEqual(states_along(program, LIMITS, 9)[9][0][0][3], (1,) * 5)
 
 
