@@ -89,5 +89,5 @@ def placed(memory, item):
         raise Unfit()
     if store.used() + words > store.room or store.nursery - store.young < words <= store.nursery:
         raise CanNot()
-    address = store.place(item)
+    address = store.put_new(item)
     return (memory_of(store), address)

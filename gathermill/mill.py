@@ -27,6 +27,11 @@ def run_from(program, mill, limits):
     return run
 
 
+def begin_run(program, limits):
+    """The Run of a PROGRAM, made of tuples, from its begin on."""
+    return run_from(program, mill_begun(program, limits), limits)
+
+
 def mill_of(run):
     """The MILL of a Run."""
     return (tuple(run.frames), memory_of(run.heap.store), run.shown, run.end)
@@ -59,16 +64,14 @@ def go_on_by(run, schedule, done, most):
 
 def run_mill(program, limits, schedule, most):
     """The OUTCOME of a run, which goes on if it has not ended behind most turns."""
-    program = frozen(program)
-    run = run_from(program, mill_begun(program, limits), limits)
+    run = begin_run(frozen(program), limits)
     go_on_by(run, schedule, 0, most)
     return (run.shown, ("going",) if run.end is None else run.end)
 
 
 def mills_along(program, limits, schedule, most):
     """The list of the MILLS ahead of the first turn and behind each one, at most most."""
-    program = frozen(program)
-    run = run_from(program, mill_begun(program, limits), limits)
+    run = begin_run(frozen(program), limits)
     mills = [mill_of(run)]
     done = 0
     while done < most and run.end is None:

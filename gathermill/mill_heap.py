@@ -42,7 +42,7 @@ class MillHeap:
 
     def take_in(self, item):
         """Places a new OBJECT, and tells its REFERENCE."""
-        return ("@", self.store.place(item))
+        return ("@", self.store.put_new(item))
 
     def gather(self, frames, steps):
         """Does so many steps of the collector, which may change the FRAMES."""

@@ -58,7 +58,7 @@ class Store:
         for at, value in enumerate(members_of(item), address + 1):
             self.put_word(at, value)
 
-    def place(self, item):
+    def put_new(self, item):
         """Puts a new OBJECT into the nursery, or here if it is greater, and tells its address."""
         words = words_of(item)
         if words <= self.nursery:

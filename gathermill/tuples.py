@@ -20,7 +20,8 @@ def frozen(value):
 
 def next_deep(source, built):
     """Goes on with building source anew, up to what has lists or tuples in it itself; None if there is none."""
-    for at in range(len(built), len(source)):
+    first = len(built)
+    for at in range(first, len(source)):
         own = source[at]
         if not isinstance(own, (list, tuple)):
             built.append(own)

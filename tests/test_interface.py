@@ -39,6 +39,13 @@ INTERFACE = {
             "with_roots(frames, roots), is_mill(thing)",
     "sights": "sight(mill), same_sight(mill, other), parting(mill, other), is_parting(mill, other, thing), seen_at(mill), "
               "unseen(mill)",
+    "rooms": "needs(program, deep, most), least_room(program, deep, most), peak(program, deep, most), "
+             "first_refused(program, room, deep, most), lacks_at(program, deep, most), floating(mill), live_in(mill), "
+             "gathered(mill), floating_along(program, limits, schedule, most)",
+    "images": "image_of(mill), mill_read(text)",
+    "judge": "is_claim(thing), is_so(claim), paper(claim), is_paper_for(claim, thing), is_paper_against(claim, thing), "
+             "verdicts(claims, things), comes_of(claim, claims), first_false(claims)",
+    "desk": "desk(text), is_request(thing)",
     "holds": "has_form(thing), breaches(mill), is_sound(mill), reached(mill), reached_words(mill), is_tight(mill)",
 }
 
