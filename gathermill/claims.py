@@ -63,7 +63,7 @@ def is_outcome(thing):
 
 def is_going(thing):
     """Whether thing is the end of an OUTCOME of a run that goes on."""
-    return isinstance(thing, tuple) and len(thing) == 1 and is_string(thing[0]) and thing[0] == "going"
+    return thing == ("going",)
 
 
 def is_taken_claim(fields):

@@ -17,7 +17,7 @@ def has_form(thing):
 
 def is_memory_word(thing):
     """Whether thing is what may stand in a word of a memory."""
-    return is_value(thing) or is_header(thing) or is_moved(thing) or (isinstance(thing, tuple) and thing == FREE)
+    return is_value(thing) or is_header(thing) or is_moved(thing) or thing == FREE
 
 
 def breaches(mill):

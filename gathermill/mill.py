@@ -21,10 +21,8 @@ def mill_begun(program, limits):
 
 def run_from(program, mill, limits):
     """The Run of a PROGRAM, made of tuples, that goes on from a MILL."""
-    frames, memory, shown, end = mill
-    run = Run(program, list(frames), MillHeap(Store(memory)), shown, limits[2])
-    run.end = end
-    return run
+    frames, memory, shown, _ = mill
+    return Run(program, list(frames), MillHeap(Store(memory)), shown, limits[2])
 
 
 def begin_run(program, limits):

@@ -28,11 +28,11 @@ def is_string(thing):
 
 def is_last_end(thing):
     """Whether thing is an end behind which a run does not go on."""
-    if not isinstance(thing, tuple) or not thing or not is_string(thing[0]):
+    if not isinstance(thing, tuple):
         return False
-    if len(thing) == 1:
-        return thing[0] == "done"
-    return len(thing) == 2 and thing[0] == "failed" and is_string(thing[1])
+    if len(thing) == 2:
+        return thing[0] == "failed" and is_string(thing[1])
+    return thing == ("done",)
 
 
 def is_quadruple(thing):

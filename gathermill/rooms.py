@@ -6,10 +6,10 @@ from gathermill.errors import Unfit
 from gathermill.free_heap import FreeHeap
 from gathermill.machine import begun
 from gathermill.major import whole
+from gathermill.memory import used_words
 from gathermill.mill import begin_run, go_on_by, roots_of, with_roots
 from gathermill.running import Run
 from gathermill.seeing import Seen, seen_in
-from gathermill.store import Store
 from gathermill.tuples import frozen
 
 
@@ -83,8 +83,7 @@ def lacks_at(program, deep, most):
 
 def floating(mill):
     """How many used words of a MILL are not those of live OBJECTS."""
-    mill = frozen(mill)
-    return Store(mill[1]).used() - live_in(mill)
+    return used_words(mill[1]) - live_in(mill)
 
 
 def live_in(mill):

@@ -35,7 +35,8 @@ class RequestTest(unittest.TestCase):
     def test_wrong_words_and_numbers(self):
         for thing in ("", " ", "\n", "ends", "End", "END", "end.", "turn", "turn 1 2", "turn -1", "turn +1", "turn 01", "turn 00", "turn 1000000", "turn 0000001", "turn one",
                       "turn 1.0", "limits", "limits 1 4", "limits 1 4 1 1", "limits 1 04 1", "limits 1 4 1234567", "schedule", "schedule -1", "schedule 1 02", "schedule 1 1000000",
-                      "end 1", "whole 0", "undo 1", "image x", "text 1\n x", "codes x\n x", "read 5\n x", "turn\t1", "turn 1\t", "turn ²", "turn ١", "limit 1 4 1", "halt", "0", "turn1"):
+                      "end 1", "whole 0", "undo 1", "image x", "text 1\n x", "codes x\n x", "read 5\n x", "turn\t1", "turn 1\t", "turn ²", "turn ١", "limit 1 4 1", "halt", "0", "turn1",
+                      *[f"{word} {own}" for word in BARE for own in ("0", "1")], *[f"{word} {own}\n x" for word in TEXTED for own in ("0", "1")]):
             self.assertIs(is_request(thing), False, thing)
             if thing:
                 self.assertEqual(told(desk, thing), raised("BadText", line=1), thing)
@@ -93,6 +94,10 @@ class DeskTest(unittest.TestCase):
         self.check("\n".join(("shown", "end", "turns", "frames", "at", "words", "breaches", "image", "undo")),
                    "-", "going", "0", "1", "0 0", "0 0 200", "-", image_of(mill_begun(main("halt"), (200, 40, 20))), "refused CanNot")
         self.check("turn 5\nshown\nend\nturns\nframes\nat\nwords\nbreaches", "done", "-", "done", "1", "0", "-", "0 0 200", "-")
+        for n, end in ((18, "done"), (19, "failed deep")):
+            self.check(f"text\n let f = fn (n) {{ if 0 < n {{ f(n - 1); }} }}; f({n});\nturn 999\nend", "done", "done", end)
+        for n, end in ((198, "done"), (199, "failed room")):
+            self.check(f"text\n let a = many({n}, 0); let b = [];\nturn 999\nend", "done", "done", end)
         # At first the SCHEDULE is (1,): a step is done ahead of the halt.
         self.check("turn 1\nimage", "done", image_of(mills_along(main("halt"), (200, 40, 20), (1,), 1)[-1]))
 

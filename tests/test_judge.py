@@ -103,7 +103,7 @@ class ClaimTest(unittest.TestCase):
     def test_lengths_and_words(self):
         for claim in CLAIMS:
             self.check(False, claim[:-1], claim + (0,), claim + ((),), claim[:1], (claim,), ("other",) + claim[1:], (None,) + claim[1:], (("taken",),) + claim[1:],
-                       ("Taken",) + claim[1:], claim[1:])
+                       ("Taken",) + claim[1:], claim[1:], ([],) + claim[1:], ([claim[0]],) + claim[1:], (("taken", []),) + claim[1:])
         for one, other in itertools.permutations(CLAIMS, 2):
             if one[0] != other[0] and (one[0], other[0]) not in (("taken", "short"), ("short", "taken")):
                 self.check(False, (one[0],) + other[1:])
@@ -204,7 +204,7 @@ class PapersTest(JudgeCase):
         for number in (0, 1, 4):
             self.check(("live", HELD, number), True, {0: ((0,),), 1: ((0, 1),), 4: ((4,),)}[number],
                        ((), (1,), (0, 0), (0, 1, 1), (0, 2), (5, 4), (2, 0), (0, 1, 0), (4, 4), [0, 1], [0], [4], (0, True), (0, 6), (6,), (-6,), (0, -5), (False, 1),
-                        (0, 1, 4), (0, 4), (1, 0), (0, 1, 2, 3, 4, 5)))
+                        (0, 1, 4), (0, 4), (1, 0), (0, 1, 2, 3, 4, 5), (0, 6, number), (0, 10 ** 30, number), (0, -6, number), (6, number)))
         every = (0, 1, 2, 3, 4, 5)
         for number in (2, 3, 5):
             good = [own for size in range(7) for own in itertools.combinations(every, size)
