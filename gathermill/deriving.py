@@ -27,7 +27,8 @@ def comes_live(claim, others):
     waiting = [own[2] for own in others if is_same(own[1], state)]
     found = {own: True for own in waiting}
     while waiting:
-        for led in numbers_of_object(state, waiting.pop()):
+        own = waiting.pop()
+        for led in numbers_of_object(state, own):
             if led not in found:
                 found[led] = True
                 waiting.append(led)
